@@ -1,0 +1,1 @@
+"""The least signs from one screen to another."""
