@@ -17,6 +17,27 @@ class Screen:
         self.kept_row = 0
         self.kept_column = 0
 
+    # A screen of its own: what is done with it is not seen in this one.
+    def twin(self):
+        copied = Screen(self.columns, len(self.rows))
+        copied.rows = [list(cells) for cells in self.rows]
+        copied.goes_on = list(self.goes_on)
+        copied.row = self.row
+        copied.column = self.column
+        copied.due = self.due
+        copied.colour = self.colour
+        copied.top = self.top
+        copied.bottom = self.bottom
+        copied.kept_row = self.kept_row
+        copied.kept_column = self.kept_column
+        return copied
+
+    # All that two screens of one size can be unlike in.
+    def insides(self):
+        region = (self.top, self.bottom)
+        kept = (self.kept_row, self.kept_column)
+        return (self.rows, self.goes_on, self.spot(), self.colour, region, kept)
+
     def spot(self):
         return (self.row, self.column, self.due)
 

@@ -83,6 +83,25 @@ def quick_choices(family):
     return [KEPT if unit.keepable else WRITTEN for unit in family.units]
 
 
+def may_be(unit, choice, end_erased):
+    if end_erased:
+        return choice == KEPT
+    if choice == KEPT:
+        return unit.keepable
+    return choice == WRITTEN or unit.erasable
+
+
+def are_let(family, choices):
+    erased_row = None
+    for unit, choice in zip(family.units, choices):
+        row = unit.place[0]
+        if not may_be(unit, choice, row == erased_row):
+            return False
+        if choice == ERASED:
+            erased_row = row
+    return True
+
+
 # The choices are let.
 def told_octets(family, choices):
     octets = []

@@ -1,6 +1,7 @@
 """The calls on one object: they are read from a list of numbers, and answered in one."""
 
-from leastsigns.family import Family, quick_choices, told_octets
+from leastsigns.cells import RIGHT_HALF
+from leastsigns.family import ERASED, KEPT, WRITTEN, Family, are_let, quick_choices, told_octets
 from leastsigns.least import least_choices
 from leastsigns.terminal import Terminal
 from leastsigns.ways import Ways
@@ -8,6 +9,7 @@ from leastsigns.ways import Ways
 NO_SUCH_PLACE = -2
 NO_SUCH_SETTING = -3
 NO_SUCH_SIZE = -5
+NO_SUCH_CHOICES = -7
 NOT_READY = -8
 
 
@@ -31,8 +33,20 @@ class State:
     def ready(self):
         return self.now.held == []
 
+    def swap(self):
+        before = self.now
+        self.now = self.wanted
+        self.wanted = before
+
+    def shown_of(self, which):
+        return (self.now if which == 0 else self.wanted).shown()
+
     def make_family(self):
         return Family(self.now.shown(), self.wanted.shown(), self.ways)
+
+    def least_octets(self):
+        family = self.make_family()
+        return told_octets(family, least_choices(family))
 
 
 def counted(numbers):
@@ -111,10 +125,66 @@ def answer_quick(state, told):
     return counted(told_octets(family, quick_choices(family)))
 
 
-def answer_cursor(state, told):
-    if told[0] not in (0, 1):
+def fits(family, choices):
+    if len(choices) != len(family.units):
+        return False
+    return all([choice in (KEPT, ERASED, WRITTEN) for choice in choices])
+
+
+def answer_choose(state, told):
+    choices = told[0]
+    if not state.ready():
+        return [NOT_READY]
+    family = state.make_family()
+    if not fits(family, choices):
+        return [NO_SUCH_CHOICES]
+    if not are_let(family, choices):
+        return [0]
+    return [1] + counted(told_octets(family, choices))
+
+
+def answer_take(state, told):
+    if not state.ready():
+        return [NOT_READY]
+    octets = state.least_octets()
+    state.now.feed(octets)
+    return [len(octets), 1 if alike(state.now.shown(), state.wanted.shown()) else 0]
+
+
+def answer_try(state, told):
+    octets = told[0]
+    if not state.ready():
+        return [NOT_READY]
+    tried = state.now.twin()
+    tried.feed(octets)
+    fine = tried.held == [] and alike(tried.shown(), state.wanted.shown())
+    return [1 if fine else 0, len(octets), len(state.least_octets())]
+
+
+def answer_swap(state, told):
+    unlike = state.now.insides() != state.wanted.insides()
+    state.swap()
+    return [1 if unlike else 0]
+
+
+def answer_row(state, told):
+    which = told[0]
+    row = told[1]
+    if which not in (0, 1):
         return [NO_SUCH_SETTING]
-    screen = (state.now if told[0] == 0 else state.wanted).shown()
+    if not state.has_row(row):
+        return [NO_SUCH_PLACE]
+    cells = state.shown_of(which).rows[row]
+    signs = [cell[0] for cell in cells if cell[1] != RIGHT_HALF]
+    colours = [cell[2] for cell in cells]
+    return counted(signs) + counted(colours)
+
+
+def answer_cursor(state, told):
+    which = told[0]
+    if which not in (0, 1):
+        return [NO_SUCH_SETTING]
+    screen = state.shown_of(which)
     return [screen.row, screen.column, 1 if screen.due else 0, screen.colour]
 
 
@@ -127,6 +197,11 @@ CALLS = {
     4: (answer_way, 5, 0),
     5: (answer_least, 0, 0),
     6: (answer_quick, 0, 0),
+    7: (answer_choose, 0, 1),
+    8: (answer_take, 0, 0),
+    9: (answer_try, 0, 1),
+    10: (answer_swap, 0, 0),
+    11: (answer_row, 2, 0),
     12: (answer_cursor, 1, 0),
 }
 

@@ -26,6 +26,18 @@ class Terminal:
         self.other_shown = False
         self.held = []
 
+    # What bytes do with the twin is not seen here.
+    def twin(self):
+        copied = Terminal(self.main.columns, len(self.main.rows))
+        copied.main = self.main.twin()
+        copied.other = self.other.twin()
+        copied.other_shown = self.other_shown
+        copied.held = list(self.held)
+        return copied
+
+    def insides(self):
+        return (self.main.insides(), self.other.insides(), self.other_shown, self.held)
+
     def shown(self):
         return self.other if self.other_shown else self.main
 

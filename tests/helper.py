@@ -6,7 +6,21 @@ with the package, so that the two can be held against one another.
 
 from leastsigns.screens import answers
 
-NUMBERS = {"size": 0, "now": 1, "wanted": 2, "like": 3, "way": 4, "least": 5, "quick": 6, "cursor": 12}
+NUMBERS = {
+    "size": 0, "now": 1, "wanted": 2, "like": 3, "way": 4, "least": 5, "quick": 6, "choose": 7, "take": 8, "try": 9,
+    "swap": 10, "row": 11, "cursor": 12,
+}
+GREAT = 1000000000000000000
+
+
+class Unchangeable(list):
+    """A list that may be read alone."""
+
+    def refuse(self, *told, **named):
+        raise AssertionError("what is handed in is changed")
+
+    append = clear = extend = insert = pop = remove = reverse = sort = refuse
+    __setitem__ = __delitem__ = __iadd__ = __imul__ = refuse
 
 
 def octets(told):
@@ -28,7 +42,7 @@ def flat(calls):
 
 
 def parted(numbers):
-    """The answers of a line, one list a call."""
+    """The answers of a line, one list a call; or the lists of one answer."""
     result = []
     place = 0
     while place < len(numbers):
@@ -40,6 +54,11 @@ def parted(numbers):
 
 def ask(*calls):
     return parted(answers(flat(calls)))
+
+
+def digits(text):
+    """Choices, or colours, told as a text of digits."""
+    return [int(sign) for sign in text]
 
 
 def sent_text(row):
@@ -398,6 +417,102 @@ def model_like(now, wanted):
 
 def model_cursor(model):
     return [*model.s["at"], int(model.s["due"]), model.s["colour"]]
+
+
+def model_row(model, r):
+    row = model.get_row(r)
+    return counted([ord(cell[0]) for cell in row if cell[1] != "right"]) + counted([cell[2] for cell in row])
+
+
+def model_choose(now, wanted, choices):
+    """What the choices tell: each one that may be made by then is really sent to a copy of now."""
+    units = model_units(wanted)
+    if len(choices) != len(units) or not set(choices) <= {0, 1, 2}:
+        return [-7]
+    model = now.copy()
+    text = ""
+    erased_row = None
+    for unit, choice in zip(units, choices):
+        let = dict(let_choices(model, unit, erased_row == unit[0]))
+        if choice not in let:
+            return [0]
+        model.feed(octets(let[choice]))
+        text += let[choice]
+        erased_row = unit[0] if choice == 1 else erased_row
+    return [1] + counted(octets(text + end_text(model, wanted)))
+
+
+class SecondLine:
+    """All thirteen calls, answered by the second program."""
+
+    def __init__(self):
+        self.known = {}
+        self.two = [Model(8, 3), Model(8, 3)]
+
+    def least(self):
+        now, wanted = self.two
+        asked = repr((now.s, wanted.s))
+        if asked not in self.known:
+            small = now.width * now.height <= 6
+            self.known[asked] = (least_of_all if small else least_by_layers)(now, wanted)
+        return self.known[asked]
+
+    def answer(self, call):
+        name, told = call[0], call[1:]
+        if name in ("least", "quick", "choose", "take", "try") and self.two[0].held:
+            return [-8]
+        return {
+            "size": self.size, "now": self.sent, "wanted": self.sent_wanted, "like": lambda: model_like(*self.two),
+            "way": self.way, "least": lambda: sum(map(counted, self.least()), []),
+            "quick": lambda: counted(quick_of(*self.two)), "take": self.take, "try": self.tried, "swap": self.swap,
+            "choose": lambda choices: model_choose(*self.two, choices), "row": self.row, "cursor": self.cursor,
+        }[name](*told)
+
+    def size(self, width, height):
+        if width not in range(2, 13) or height not in range(1, 7):
+            return [-5]
+        self.two = [Model(width, height), Model(width, height)]
+        return [width * height]
+
+    def sent(self, row):
+        self.two[0].feed(octets(row))
+        return [len(self.two[0].held)]
+
+    def sent_wanted(self, row):
+        self.two[1].feed(octets(row))
+        return [len(self.two[1].held)]
+
+    def way(self, r, c, due, r2, c2):
+        cells = self.two[0].s["cells"]
+        if (r, c) not in cells or (r2, c2) not in cells:
+            return [-2]
+        if due not in (0, 1) or (due and c + 1 < self.two[0].width):
+            return [-3]
+        return counted(octets(model_way(r, c, due, r2, c2)))
+
+    def take(self):
+        row = self.least()[0]
+        self.two[0].feed(row)
+        return [len(row), model_like(*self.two)[0]]
+
+    def tried(self, row):
+        model = self.two[0].copy()
+        model.feed(octets(row))
+        fine = model_like(model, self.two[1])[0] and not model.held
+        return [int(fine), len(row), len(self.least()[0])]
+
+    def swap(self):
+        one, two = ((model.screens, model.shown, model.held) for model in self.two)
+        self.two.reverse()
+        return [int(one != two)]
+
+    def row(self, which, r):
+        if which not in (0, 1):
+            return [-3]
+        return model_row(self.two[which], r) if r in range(self.two[0].height) else [-2]
+
+    def cursor(self, which):
+        return model_cursor(self.two[which]) if which in (0, 1) else [-3]
 
 
 PIECES = (

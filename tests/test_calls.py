@@ -1,21 +1,9 @@
-"""Points 1 to 5, 7 and 13, and the interface: sizes, answers, refusals and their order."""
+"""Points 1 to 4, 7 and 13, and the interface: sizes, answers, refusals and their order."""
 
 import unittest
 
-from tests.helper import ask, flat
+from tests.helper import GREAT, Unchangeable, ask, flat
 from leastsigns.screens import answers
-
-GREAT = 1000000000000000000
-
-
-class Unchangeable(list):
-    """A list that may be read alone."""
-
-    def refuse(self, *told, **named):
-        raise AssertionError("what is handed in is changed")
-
-    append = clear = extend = insert = pop = remove = reverse = sort = refuse
-    __setitem__ = __delitem__ = __iadd__ = __imul__ = refuse
 
 
 class Size(unittest.TestCase):

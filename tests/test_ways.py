@@ -2,10 +2,8 @@
 
 import unittest
 
-from tests.helper import Model, all_ways, ask, counted, model_way, octets, sent_text
+from tests.helper import GREAT, Model, all_ways, ask, counted, model_way, octets, sent_text
 from leastsigns.ways import way_taken
-
-GREAT = 1000000000000000000
 
 
 def way(size, *told):
